@@ -1,0 +1,1 @@
+"""Chargeyard: guests that are filled from lines beneath lines."""
