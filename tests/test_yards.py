@@ -180,6 +180,11 @@ class TimesTest(unittest.TestCase):
         self.assertEqual(told, (1, ((None, (TOP * k,)),)))
         self.assertEqual(guests_times([(0, 0, 0, TOP, TOP)], k), [(0, 0, 0, TOP * k, TOP * k)])
 
+    def test_a_number_of_three_hundred_figures(self):
+        k = 10 ** 300 - 1
+        self.assertEqual(yard_times((2, ((None, (1, 0)),)), k), (2, ((None, (k, 0)),)))
+        self.assertEqual(guests_times([(0, 0, 0, 1, 1)], k), [(0, 0, 0, k, k)])
+
     def test_the_kinds(self):
         told = yard_times(DEEP, 2)
         self.assertTrue(is_yard(told))
