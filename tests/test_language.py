@@ -1,4 +1,4 @@
-"""What of the language's rules (L1 to L28) can be seen from the package's files by themselves."""
+"""A part of the language's rules (L1 to L28): what is easily seen from the package's files."""
 
 import ast
 import builtins
