@@ -10,18 +10,18 @@ DEEP_GUESTS = [(0, 0, 2, 6, 3), (1, 0, 1, 7, 4), (2, 1, 2, 4, 2), (3, 0, 2, 5, 3
 EIGHT_TURNS = (8, ((None, (4, 4, 0, 4, 4, 4, 4, TOP)), (0, (1, 2, 3, 4, 5, 6, 7, 8))))
 
 
-def made_yard(source, greatest):
-    turns = source.randint(1, 8)
+def made_yard(source, greatest, most_turns=8, most_lines=5):
+    turns = source.randint(1, most_turns)
     lines = []
-    for line in range(source.randint(1, 5)):
+    for line in range(source.randint(1, most_lines)):
         above = source.randrange(line) if line else None
         lines.append((above, tuple(source.randint(0, greatest) for _ in range(turns))))
     return (turns, tuple(lines))
 
 
-def made_guests(source, yard, greatest):
+def made_guests(source, yard, greatest, most_guests=8):
     guests = []
-    for _ in range(source.randint(0, 8)):
+    for _ in range(source.randint(0, most_guests)):
         first = source.randrange(yard[0])
         last = source.randrange(first, yard[0])
         line = source.randrange(len(yard[1]))
@@ -34,6 +34,21 @@ def made_cases(seed, count, greatest=9):
     for _ in range(count):
         yard = made_yard(source, greatest)
         yield source, yard, made_guests(source, yard, greatest)
+
+
+def small_cases(seed, count):
+    """So small that every filling can be tried."""
+    source = random.Random(seed)
+    for _ in range(count):
+        yard = made_yard(source, 4, 3, 4)
+        yield yard, made_guests(source, yard, 3, 3)
+
+
+def filled_cases(seed, count, greatest=9):
+    """Cases that can be filled: each guest wants just what some filling without a fault gives it."""
+    for source, yard, guests in made_cases(seed, count, greatest):
+        totals = [sum(takes) for takes in made_filling(source, yard, guests)]
+        yield yard, [guest[:3] + (total,) + guest[4:] for guest, total in zip(guests, totals) if total > 0]
 
 
 def all_sets(guests):
@@ -62,3 +77,7 @@ def made_filling(source, yard, guests):
                 left[k][turn] -= takes[turn]
         filling.append(takes)
     return filling
+
+
+def is_whole(thing):
+    return isinstance(thing, int) and not isinstance(thing, bool)

@@ -4,7 +4,8 @@ import unittest
 
 from chargeyard.fillings import fault_of, lacks_of, loads_of, totals_of
 from chargeyard.yards import guests_times, yard_times
-from samples import DEEP, DEEP_GUESTS, EIGHT_TURNS, ONE_LINE, TOP, is_beneath, made_cases, made_filling
+from plain import plain_faults
+from samples import DEEP, DEEP_GUESTS, EIGHT_TURNS, ONE_LINE, TOP, made_cases, made_filling
 
 DEEP_FILLING = [[3, 2, 1], [2, 4, 0], [0, 0, 2], [1, 1, 1], [0, 0, 2]]
 
@@ -13,27 +14,6 @@ def changed(filling, number, turn, take):
     told = copy.deepcopy(filling)
     told[number][turn] = take
     return told
-
-
-def plain_faults(yard, guests, filling):
-    """All faults in their order, straight from the document's words."""
-    faults = []
-    for number, (_, first, last, want, most) in enumerate(guests):
-        for turn, take in enumerate(filling[number]):
-            if take < 0:
-                faults.append(("below", number, turn))
-            if take != 0 and not first <= turn <= last:
-                faults.append(("away", number, turn))
-            if take > most:
-                faults.append(("most", number, turn))
-        if sum(filling[number]) > want:
-            faults.append(("want", number))
-    for line, (_, bounds) in enumerate(yard[1]):
-        for turn, bound in enumerate(bounds):
-            load = sum(takes[turn] for guest, takes in zip(guests, filling) if is_beneath(yard, guest[0], line))
-            if load > bound:
-                faults.append(("line", line, turn))
-    return faults
 
 
 class SumsTest(unittest.TestCase):

@@ -5,14 +5,8 @@ import unittest
 from chargeyard.fillings import fault_of, lacks_of, totals_of
 from chargeyard.giving import cuts_of, given_at, given_most, short_of
 from chargeyard.yards import guests_times, yard_times
+from plain import plain_given, plain_reach
 from samples import DEEP, DEEP_GUESTS, EIGHT_TURNS, ONE_LINE, TOP, all_sets, is_beneath, made_cases, made_filling
-
-
-def plain_reach(yard, guests, some, line, turn):
-    """What reaches a line, straight from the document's words."""
-    mosts = [guests[n][4] for n in some if guests[n][0] == line and guests[n][1] <= turn <= guests[n][2]]
-    straight = [k for k, (above, _) in enumerate(yard[1]) if above == line]
-    return sum(mosts) + sum(min(yard[1][k][1][turn], plain_reach(yard, guests, some, k, turn)) for k in straight)
 
 
 def plain_cuts(yard, guests, some, turn):
@@ -69,7 +63,7 @@ class GivenTest(unittest.TestCase):
         for source, yard, guests in made_cases(6, 60):
             for some in source.sample(all_sets(guests), min(8, 2 ** len(guests))):
                 told = [given_at(yard, guests, some, turn) for turn in range(yard[0])]
-                plain = [min(yard[1][0][1][turn], plain_reach(yard, guests, some, 0, turn)) for turn in range(yard[0])]
+                plain = [plain_given(yard, guests, some, turn) for turn in range(yard[0])]
                 self.assertEqual(told, plain)
                 self.assertEqual(given_most(yard, guests, some), sum(plain))
 

@@ -19,6 +19,8 @@ OWN_METHODS = set(
     "items join keys ljust lower lstrip partition pop remove replace reverse rfind rjust rpartition rsplit rstrip "
     "setdefault split splitlines startswith strip update upper values zfill bit_length".split()
 )
+VALUES_FREE = set("count index title find get join lower upper split strip copy add".split())
+CHANGES = set("append clear extend insert pop remove reverse setdefault update".split())
 DUNDERS = {"__init__", "__eq__", "__repr__", "__str__", "__len__"}
 OUT_WORDS = re.compile(
     r"\b(type|typing|typing_extensions|enum|Enum|IntEnum|StrEnum|Flag|IntFlag|Generic|Protocol|ABC|ABCMeta|namedtuple"
@@ -51,6 +53,24 @@ def top_names(tree):
             yield node.targets[0].id
         elif isinstance(node, ast.ImportFrom):
             yield from [name.asname or name.name for name in node.names]
+
+
+def imported_names(tree):
+    return [part.name for node in tree.body if isinstance(node, ast.ImportFrom) for part in node.names]
+
+
+def local_names(function):
+    for node in ast.walk(function):
+        if isinstance(node, ast.Name) and isinstance(node.ctx, ast.Store):
+            yield node.id
+        elif isinstance(node, ast.arg):
+            yield node.arg
+
+
+def values_given(tree):
+    for node in ast.walk(tree):
+        if isinstance(node, ast.Attribute) and isinstance(node.ctx, ast.Store):
+            yield node.attr
 
 
 def defined_names(tree):
@@ -136,6 +156,41 @@ class LanguageTest(unittest.TestCase):
         for place, node in self.nodes():
             if isinstance(node, ast.Call) and isinstance(node.func, ast.Attribute):
                 self.assertIn(node.func.attr, OWN_METHODS | self.methods | DUNDERS, place)
+
+    def test_values_of_objects(self):
+        of_python = {name for kind in (str, int, list, dict, set, bytes, tuple) for name in dir(kind)}
+        for name, tree in self.trees.items():
+            for value in values_given(tree):
+                self.assertNotIn(value, self.methods, name)
+                self.assertNotIn(value, of_python - VALUES_FREE, name)
+        self.assertEqual(self.methods & (of_python - OWN_METHODS - DUNDERS - {"add", "discard"}), set())
+
+    def test_locals_are_not_called_like_imports_or_classes(self):
+        for name, tree in self.trees.items():
+            classes = [node.name for node in tree.body if isinstance(node, ast.ClassDef)]
+            for node in ast.walk(tree):
+                if isinstance(node, (ast.FunctionDef, ast.Lambda)):
+                    self.assertEqual(set(local_names(node)) & set(classes + imported_names(tree)), set(), name)
+
+    def test_walked_at_once(self):
+        at_once = {"zip", "enumerate", "reversed", "range"}
+        for place, node in self.nodes():
+            if isinstance(node, (ast.Assign, ast.AugAssign, ast.Return)) and isinstance(node.value, ast.Call):
+                called = node.value.func
+                self.assertNotIn(getattr(called, "id", None), at_once, place)
+                self.assertNotIn(getattr(called, "attr", None), {"items", "keys", "values"}, place)
+
+    def test_what_a_loop_walks_is_not_changed_in_it(self):
+        for place, node in self.nodes():
+            if isinstance(node, ast.For):
+                walked = ast.unparse(node.iter)
+                for part in node.body:
+                    for inner in ast.walk(part):
+                        if isinstance(inner, ast.Call) and isinstance(inner.func, ast.Attribute):
+                            is_change = inner.func.attr in CHANGES and ast.unparse(inner.func.value) == walked
+                            self.assertFalse(is_change, place)
+                        if isinstance(inner, ast.Subscript) and isinstance(inner.ctx, ast.Store):
+                            self.assertNotEqual(ast.unparse(inner.value), walked, place)
 
     def test_imports(self):
         drawn = {}
