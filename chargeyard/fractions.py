@@ -14,11 +14,12 @@ def fraction(top, bottom):
     return (top // divisor, bottom // divisor)
 
 
-def bottoms_product(parts):
-    product = 1
+def common_bottom(parts):
+    """The least number that the bottom of each fraction divides."""
+    bottom = 1
     for part in parts:
-        product *= part[1]
-    return product
+        bottom *= part[1] // greatest_divisor(bottom, part[1])
+    return bottom
 
 
 def tops_over(parts, bottom):
@@ -27,6 +28,6 @@ def tops_over(parts, bottom):
 
 
 def is_fairer(one, other):
-    bottom = bottoms_product(one + other)
+    bottom = common_bottom(one + other)
     # Python tells the greater one of two lists by the first place where they differ.
     return tops_over(one, bottom) > tops_over(other, bottom)

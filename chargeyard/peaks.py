@@ -1,7 +1,6 @@
 """The least peak: how far line 0 can be lowered so that all are still filled."""
 
-from chargeyard.errors import NoRoom
-from chargeyard.filled import best_filling, lacking_set
+from chargeyard.filled import best_filling, lacking_set, refuse_lack
 from chargeyard.giving import given_at, short_of
 from chargeyard.yards import turns_of
 
@@ -27,12 +26,6 @@ def rise_due(yard, guests, some, p):
     # without one the set would be short in the yard itself.
     held = turns_held(yard, guests, some, p)
     return (short_lowered(yard, guests, some, p) + held - 1) // held
-
-
-def refuse_lack(yard, guests):
-    some = lacking_set(yard, guests)
-    if short_of(yard, guests, some) > 0:
-        raise NoRoom(some)
 
 
 def least_peak(yard, guests):

@@ -86,6 +86,15 @@ def most_of(guest):
     return guest[4]
 
 
+def with_want(guest, want):
+    return (guest[0], guest[1], guest[2], want, guest[4])
+
+
+def staying_from(guest, turn):
+    """The guest without the turns of its stay that lie ahead of this one."""
+    return (guest[0], max(guest[1], turn), guest[2], guest[3], guest[4])
+
+
 def lines_beneath(yard, line):
     beneath = [line]
     # A line's number is greater than that of the line above it, so one walk finds all.
@@ -100,6 +109,13 @@ def way_up(yard, line):
     while way[-1] != 0:
         way.append(above_of(yard, way[-1]))
     return way
+
+
+def with_bound(yard, line, turn, bound):
+    above = above_of(yard, line)
+    bounds = yard[1][line][1]
+    changed = (above, bounds[:turn] + (bound,) + bounds[turn + 1:])
+    return (yard[0], yard[1][:line] + (changed,) + yard[1][line + 1:])
 
 
 def line_times(line, k):

@@ -1,6 +1,8 @@
 """The points' own words, worked out the long way round: what the program tells is held against it."""
 
 import itertools
+import re
+from fractions import Fraction
 
 from samples import is_beneath
 
@@ -37,9 +39,12 @@ def plain_given(yard, guests, some, turn):
     return min(yard[1][0][1][turn], plain_reach(yard, guests, some, 0, turn))
 
 
+def plain_given_all(yard, guests, some):
+    return sum(plain_given(yard, guests, some, turn) for turn in range(yard[0]))
+
+
 def plain_short(yard, guests, some):
-    given = sum(plain_given(yard, guests, some, turn) for turn in range(yard[0]))
-    return sum(guests[n][3] for n in some) - given
+    return sum(guests[n][3] for n in some) - plain_given_all(yard, guests, some)
 
 
 def gifts_at(yard, guests, turn):
@@ -79,4 +84,82 @@ def plain_peak(yard, guests):
     for p in range(max(yard[1][0][1]) + 1):
         if wants in all_totals(plain_lowered(yard, p), guests):
             return p
+    return None
+
+
+def plain_shares(yard, guests):
+    """The fairest shares by trying all sets: again and again the narrowest of those left, beside those found ahead."""
+    shares = {}
+    while len(shares) < len(guests):
+        found = sorted(shares)
+        left = [number for number in range(len(guests)) if number not in shares]
+        lowest, held = Fraction(1), left
+        for size in range(1, len(left) + 1):
+            for some in itertools.combinations(left, size):
+                spare = plain_given_all(yard, guests, found + list(some)) - plain_given_all(yard, guests, found)
+                share = Fraction(spare, sum(guests[number][3] for number in some))
+                if share < lowest:
+                    lowest, held = share, some
+        shares.update({number: lowest for number in held})
+    return [shares[number] for number in range(len(guests))]
+
+
+NUMBER = "(?:0|[1-9][0-9]{0,29})"
+FORMS = {
+    "yard": f"yard {NUMBER}",
+    "line": f"line (?:-|{NUMBER})(?: {NUMBER})+",
+    "guest": f"guest(?: {NUMBER}){{5}}",
+}
+
+
+def plain_kind(row):
+    """Which of the three rows this one is written as; None where it is none."""
+    for kind, form in FORMS.items():
+        if re.fullmatch(form, row):
+            return kind
+    return None
+
+
+def plain_row(text):
+    """The row for which a text is refused with NoText; None where there is none."""
+    if not isinstance(text, str):
+        return 0
+    kinds = [plain_kind(row) for row in text.split("\n")]
+    for place, kind in enumerate(kinds):
+        if kind is None or (kind == "yard") != (place == 0) or (place == 1 and kind != "line"):
+            return place
+        if kind == "line" and "guest" in kinds[:place]:
+            return place
+    return None if len(kinds) > 1 else 1
+
+
+def is_plain_yard(turns, lines):
+    if not 1 <= turns <= 8 or not 1 <= len(lines) <= 5:
+        return False
+    for line, words in enumerate(lines):
+        if len(words) != 1 + turns or (words[0] == "-") != (line == 0):
+            return False
+        if line and int(words[0]) >= line:
+            return False
+    return True
+
+
+def is_plain_guest(turns, lines, numbers):
+    line, first, last, want, most = numbers
+    return line < len(lines) and first <= last < turns and want > 0 and most > 0
+
+
+def plain_refusal(text):
+    """Why a text is refused, as the name of the class and the row: straight from the document's words."""
+    row = plain_row(text)
+    if row is not None:
+        return ("NoText", row)
+    rows = [row.split(" ") for row in text.split("\n")]
+    turns = int(rows[0][1])
+    lines = [words[1:] for words in rows if words[0] == "line"]
+    guests = [[int(word) for word in words[1:]] for words in rows if words[0] == "guest"]
+    if not is_plain_yard(turns, lines):
+        return ("NoYard", None)
+    if len(guests) > 8 or not all(is_plain_guest(turns, lines, numbers) for numbers in guests):
+        return ("NoGuest", None)
     return None

@@ -192,6 +192,28 @@ class LanguageTest(unittest.TestCase):
                         if isinstance(inner, ast.Subscript) and isinstance(inner.ctx, ast.Store):
                             self.assertNotEqual(ast.unparse(inner.value), walked, place)
 
+    def test_errors_that_are_taken_are_the_programs_own(self):
+        own = defined_names(self.trees["errors.py"])
+        for place, node in self.nodes():
+            if isinstance(node, ast.ExceptHandler):
+                self.assertIn(getattr(node.type, "id", None), own, place)
+            if isinstance(node, ast.Raise):
+                self.assertIn(getattr(getattr(node.exc, "func", None), "id", None), own, place)
+
+    def test_texts_and_powers(self):
+        for place, node in self.nodes():
+            if isinstance(node, ast.Constant) and isinstance(node.value, str):
+                self.assertNotIn("%", node.value, place)
+            if isinstance(node, ast.BinOp) and isinstance(node.op, ast.Pow):
+                self.assertIn(getattr(node.right, "value", None), range(65), place)
+
+    def test_keywords_and_sets(self):
+        for place, node in self.nodes():
+            if isinstance(node, ast.Call):
+                self.assertEqual([part.arg for part in node.keywords if part.arg not in ("key", "reverse")], [], place)
+                self.assertNotIn(getattr(node.func, "id", None), ("set", "frozenset"), place)
+            self.assertNotIsInstance(node, ast.Set, place)
+
     def test_imports(self):
         drawn = {}
         for name, tree in self.trees.items():

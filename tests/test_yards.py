@@ -1,6 +1,8 @@
 import unittest
 
-from chargeyard.yards import guests_times, is_guest, is_yard, lines_beneath, way_up, yard_times
+from chargeyard.yards import (
+    guests_times, is_guest, is_yard, lines_beneath, staying_from, way_up, with_bound, with_want, yard_times,
+)
 from samples import DEEP, DEEP_GUESTS, EIGHT_TURNS, ONE_LINE, TOP, is_beneath, made_cases
 
 # What is neither a yard nor a guest nor a part of one.
@@ -195,6 +197,25 @@ class TimesTest(unittest.TestCase):
         great = yard_times(DEEP, 10 ** 290)
         self.assertEqual(lines_beneath(great, 1), [1, 3, 4])
         self.assertEqual(way_up(great, 4), [4, 3, 1, 0])
+
+
+class ChangedTest(unittest.TestCase):
+    def test_another_want(self):
+        self.assertEqual(with_want((1, 2, 3, 4, 5), 9), (1, 2, 3, 9, 5))
+        self.assertEqual(with_want((1, 2, 3, 4, 5), 0), (1, 2, 3, 0, 5))
+
+    def test_staying_from_a_turn_on(self):
+        for turn, first in ((0, 2), (1, 2), (2, 2), (3, 3), (4, 4), (8, 8)):
+            self.assertEqual(staying_from((1, 2, 3, 4, 5), turn), (1, first, 3, 4, 5))
+
+    def test_another_bound(self):
+        self.assertEqual(with_bound(ONE_LINE, 0, 0, 7), (1, ((None, (7,)),)))
+        for source, yard, _ in made_cases(6, 30):
+            line, turn = source.randrange(len(yard[1])), source.randrange(yard[0])
+            changed = with_bound(yard, line, turn, TOP)
+            self.assertTrue(is_yard(changed))
+            self.assertEqual(changed[1][line][1][turn], TOP)
+            self.assertEqual(with_bound(changed, line, turn, yard[1][line][1][turn]), yard)
 
 
 class OwnedTest(unittest.TestCase):
